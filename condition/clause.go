@@ -167,3 +167,8 @@ func atoms(c api.Cond) []api.Cond {
 	}
 	return l
 }
+
+// Zero reports whether nothing is set in a condition.
+func Zero(c api.Cond) bool {
+	return c.Op == 0 && c.Column == 0 && c.Code == 0 && c.Low == 0 && c.High == 0 && len(c.Kids) == 0
+}

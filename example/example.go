@@ -57,3 +57,20 @@ func Picks(l ...int) []api.Pick {
 	}
 	return picks
 }
+
+// Declaration has a question of each kind about Schema, and takes all persons who are at least 10 years old.
+func Declaration() api.Declaration {
+	all := api.Cond{Op: api.CondAll}
+	return api.Declaration{
+		Project: "trial",
+		Source:  "people",
+		Cohort:  api.Cond{Op: api.CondBetween, Column: Age, Low: 10, High: 99},
+		Sample:  api.Sample{Part: 1, Of: 1, Seed: 7},
+		Questions: []api.Question{
+			{Name: "counts", Kind: api.AskTable, Filter: all, Dims: Picks(Area, 1, Sex, 1), Measure: -1},
+			{Name: "sums", Kind: api.AskTable, Filter: api.Cond{Op: api.CondUnder, Column: Sex, Code: 1}, Dims: Picks(Kind, 2), Measure: Income},
+			{Name: "line", Kind: api.AskModel, Filter: api.Cond{Op: api.CondNot, Kids: []api.Cond{{Op: api.CondMissing, Column: Income}}}, Measure: Income, Terms: []int{Age, Weeks}},
+			{Name: "stay", Kind: api.AskCurve, Filter: all, Measure: Weeks, Event: api.Cond{Op: api.CondBetween, Column: Age, Low: 40, High: 99}},
+		},
+	}
+}
