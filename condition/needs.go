@@ -9,17 +9,11 @@ import (
 
 // Needs returns the columns, ascending, each with the least level at which each condition about it alone can be decided.
 func (x Clause) Needs() []api.Pick {
-	var l []api.Pick
-	for column := range x.book.Columns {
-		level := 0
-		for _, c := range x.About(column) {
-			level = max(level, least(x.book, c))
-		}
-		if level > 0 {
-			l = append(l, api.Pick{Column: column, Level: level})
-		}
+	levels := map[int]int{}
+	for _, c := range atoms(x.cond) {
+		levels[c.Column] = max(levels[c.Column], least(x.book, c))
 	}
-	return l
+	return schema.Needed(levels)
 }
 
 // least returns the least level at which a condition about a column has one truth value in each block.
@@ -60,7 +54,7 @@ func Edges(b schema.Book, c api.Cond) []int {
 
 // Over returns a function for the values of a row at the levels of picks. It knows nothing if the picks do not suffice.
 func (x Clause) Over(picks []api.Pick) func(values []int) int {
-	if x.book.Picks(picks) != api.OK || !covers(picks, x.Needs()) {
+	if x.book.Picks(picks) != api.OK || !schema.Covers(picks, x.Needs()) {
 		return func(values []int) int { return api.Unknown }
 	}
 	usual := x.usual()
@@ -87,18 +81,4 @@ func (x Clause) usual() []int {
 		row[column], _ = x.book.Some(column, 0, 0)
 	}
 	return row
-}
-
-// covers reports whether each pick of others has one with its column and at least its level.
-func covers(picks, others []api.Pick) bool {
-	levels := map[int]int{}
-	for _, p := range picks {
-		levels[p.Column] = p.Level
-	}
-	for _, p := range others {
-		if levels[p.Column] < p.Level {
-			return false
-		}
-	}
-	return true
 }
