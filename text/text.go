@@ -1,4 +1,4 @@
-// Package text contains what the texts of several layers have in common: whole numbers in decimal, and words between single spaces.
+// Package text contains what the texts of several layers have in common: names, whole numbers in decimal, and words between single spaces.
 package text
 
 import (
