@@ -74,3 +74,17 @@ func Declaration() api.Declaration {
 		},
 	}
 }
+
+// Text is a program for Schema with each kind of expression.
+const Text = `let young = count(age from 0 to 39)
+out all_people = (young + count(not age from 0 to 39))
+let pay = sum(income; sex under f)
+out pay_mean = (pay / (2 * mean(weeks; all)))
+out rest = ((all_people - 3) - -7)
+out by_area = table(area/1, sex/1; income; all)
+out by_kind = table(kind/2; -; (area under north or age from 20 to 39))
+out line = model(income; age, weeks; not income missing)
+out stay = curve(weeks; age from 40 to 99; all)
+let pays = hist(income; 100; all)
+out ages = box(age; sex under m)
+`
