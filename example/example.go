@@ -88,3 +88,10 @@ out stay = curve(weeks; age from 40 to 99; all)
 let pays = hist(income; 100; all)
 out ages = box(age; sex under m)
 `
+
+// Extract has all rows at the finest levels, with the persons' numbers as keys.
+func Extract() api.Extract {
+	x := api.Extract{Project: "trial", Version: 1, Picks: Picks(Area, 2, Sex, 1, Age, 3, Income, 2, Weeks, 2, Kind, 2)}
+	x.Rows = append(x.Rows, Rows()...)
+	return x
+}
