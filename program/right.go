@@ -32,7 +32,8 @@ func Right(b schema.Book, e api.Expr) bool {
 	case api.ExprCurve:
 		return b.Measure(e.Column) && b.Columns[e.Column].Low >= 0 && said(b, e.Event) && said(b, e.Cond)
 	case api.ExprHist:
-		return b.Measure(e.Column) && slices.Contains(b.Columns[e.Column].Widths, e.Num) && said(b, e.Cond)
+		_, ok := b.Width(e.Column, e.Num)
+		return ok && said(b, e.Cond)
 	}
 	return false
 }

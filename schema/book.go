@@ -1,6 +1,10 @@
 package schema
 
-import "dataenclave/api"
+import (
+	"slices"
+
+	"dataenclave/api"
+)
 
 // Column returns a column, and whether it exists and has one of some kinds.
 func (b Book) Column(column int, kinds ...int) (api.Column, bool) {
@@ -108,18 +112,25 @@ func (b Book) blocks(column, level int) int {
 		return 1
 	}
 	w := width(c, level)
-	n := (floor(c.High, w)-floor(c.Low, w))/w + 1
+	n := (Floor(c.High, w)-Floor(c.Low, w))/w + 1
 	if c.Optional {
 		n++
 	}
 	return n
 }
 
+// Width returns the level of a measure that has a width, and whether there is one.
+func (b Book) Width(column, width int) (int, bool) {
+	c, ok := b.Column(column, api.ColumnMeasure)
+	at := slices.Index(c.Widths, width)
+	return len(c.Widths) - at, ok && at >= 0
+}
+
 // width returns the width of a level of a measure, from 1 on.
 func width(c api.Column, level int) int { return c.Widths[len(c.Widths)-level] }
 
-// floor returns the greatest multiple of a width that is at most a value.
-func floor(value, width int) int {
+// Floor returns the greatest multiple of a width that is at most a value.
+func Floor(value, width int) int {
 	rest := value % width
 	if rest < 0 {
 		rest += width
@@ -152,7 +163,7 @@ func coarse(c api.Column, level, value int) int {
 	case value == api.Missing:
 		return api.Missing
 	}
-	return floor(value, width(c, level))
+	return Floor(value, width(c, level))
 }
 
 // Pick returns the first error of a pick.

@@ -61,7 +61,7 @@ func block(c api.Column, level, value int) (int, int, bool) {
 		return api.Missing, api.Missing, c.Optional
 	}
 	w := width(c, level)
-	if value < floor(c.Low, w) || value > c.High || value%w != 0 {
+	if value < Floor(c.Low, w) || value > c.High || value%w != 0 {
 		return 0, 0, false
 	}
 	return max(value, c.Low), min(value+w-1, c.High), true
