@@ -113,3 +113,26 @@ func codesOf(dims []api.Pick, columns []int, codes [][]int, published int) []int
 	}
 	return l
 }
+
+// Counts returns the space of a schema, and how many of some rows, which fit, are in each of its cells.
+func Counts(s api.Schema, rows [][]int) (api.Space, []int, api.Errno) {
+	book, e := schema.Open(s)
+	if e != api.OK {
+		return api.Space{}, nil, e
+	}
+	x, columns, e := space(book)
+	if e != api.OK {
+		return api.Space{}, nil, e
+	}
+	counts := make([]int, cells.Count(x))
+	for _, row := range rows {
+		var at []int
+		for _, column := range columns {
+			at = append(at, slices.Index(leaves(book, column), row[column]))
+		}
+		if cell, e := cells.Index(x, at); e == api.OK {
+			counts[cell]++
+		}
+	}
+	return x, counts, api.OK
+}
