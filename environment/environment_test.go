@@ -11,6 +11,7 @@ import (
 	"dataenclave/cells"
 	"dataenclave/declaration"
 	"dataenclave/environment"
+	"dataenclave/example"
 	"dataenclave/extract"
 	"dataenclave/minimise"
 	"dataenclave/program"
@@ -28,35 +29,9 @@ func want(t *testing.T, name string, got, want any) {
 	}
 }
 
-// schema has four cells: two areas and two sexes.
-func schema() api.Schema {
-	return api.Schema{
-		Lists: []api.CodeList{
-			{Name: "areas", Codes: []api.Code{{Name: "land", Parent: -1}, {Name: "a"}, {Name: "b"}}},
-			{Name: "sexes", Codes: []api.Code{{Name: "any", Parent: -1}, {Name: "f"}, {Name: "m"}}},
-		},
-		Columns: []api.Column{
-			{Name: "person", Kind: api.ColumnId},
-			{Name: "area", Kind: api.ColumnCode, List: 0},
-			{Name: "sex", Kind: api.ColumnCode, List: 1},
-			{Name: "age", Kind: api.ColumnMeasure, High: 99, Widths: []int{1, 10}},
-			{Name: "income", Kind: api.ColumnMeasure, High: 999, Widths: []int{1}, Optional: true},
-		},
-	}
-}
+func schema() api.Schema { return example.SmallSchema() }
 
-// people has 2 persons of a and f (who are protected), 6 of a and m, and 6 of b and f.
-func people() api.Source {
-	s := api.Source{Schema: schema()}
-	for i, n := range []int{2, 6, 6} {
-		for range n {
-			id := len(s.Rows) + 1
-			s.Rows = append(s.Rows, []int{id, 1 + i/2, 1 + i%2, 20 + id, 100})
-		}
-	}
-	s.Rows[0][4] = api.Missing
-	return s
-}
+func people() api.Source { return example.People() }
 
 func rules() api.Rules { return api.Rules{Least: 3, Percent: 90} }
 
@@ -69,9 +44,8 @@ func fresh(t *testing.T) api.Enclave {
 	return x
 }
 
-// declared is the text of a declaration that needs all columns.
 func declared(project, cohort, sample string) string {
-	return "project " + project + "\nsource people\ncohort " + cohort + "\nsample " + sample + " seed 3\ntable q by area/1 sex/1 sum age where all\nmodel r of income on age where all\n"
+	return example.Declared(project, cohort, sample)
 }
 
 // play carries out the events of a script, each of which must have no error, or the one that is given for its number.
@@ -102,7 +76,7 @@ func play(t *testing.T, x api.Enclave, text string, errors ...api.Errno) api.Enc
 // started has a project p of cyd, with two checkers on duty.
 func started(t *testing.T) api.Enclave {
 	t.Helper()
-	return play(t, fresh(t), "time 5\napprove p cyd 0 900\nshift ann 0 800\nshift bob 0 800\nshift cyd 0 800\ndeclare 77 6\n"+declared("p", "all", "1 of 1"))
+	return play(t, fresh(t), example.Start())
 }
 
 const areas = "let p 1\nout areas = table(area/1; -; all)\nask p areas\nsubmit p areas\n"
