@@ -10,7 +10,8 @@ import (
 type Tree struct {
 	codes  []api.Code
 	levels []int
-	last   int // the level of the leaves
+	leaves []int // of each code some leaf that is the code, or stands below it
+	last   int   // the level of the leaves
 }
 
 // Open returns the tree of a code list, or the first error of the list.
@@ -28,7 +29,7 @@ func Open(l api.CodeList) (Tree, api.Errno) {
 		return Tree{}, e
 	}
 	levels := levelsOf(l.Codes)
-	t := Tree{codes: l.Codes, levels: levels, last: slices.Max(levels)}
+	t := Tree{codes: l.Codes, levels: levels, leaves: leavesOf(l.Codes), last: slices.Max(levels)}
 	if !t.even() {
 		return Tree{}, api.ErrList
 	}
@@ -62,14 +63,22 @@ func levelsOf(l []api.Code) []int {
 	return levels
 }
 
+// leavesOf goes from the last code back: what stands below a code always comes behind it.
+func leavesOf(l []api.Code) []int {
+	leaves := make([]int, len(l))
+	for i := range leaves {
+		leaves[i] = i
+	}
+	for i := len(l) - 1; i > 0; i-- {
+		leaves[l[i].Parent] = leaves[i]
+	}
+	return leaves
+}
+
 // even reports whether all leaves have the same level.
 func (t Tree) even() bool {
-	parent := make([]bool, len(t.codes))
-	for _, c := range t.codes[1:] {
-		parent[c.Parent] = true
-	}
-	for i := range t.codes {
-		if !parent[i] && t.levels[i] != t.last {
+	for code, leaf := range t.leaves {
+		if code == leaf && t.levels[code] != t.last {
 			return false
 		}
 	}
@@ -91,6 +100,14 @@ func (t Tree) Level(code int) int {
 		return -1
 	}
 	return t.levels[code]
+}
+
+// Some returns some leaf that is a code of a level, or stands below it, and whether there is this code.
+func (t Tree) Some(code, level int) (int, bool) {
+	if !t.Has(code) || t.levels[code] != level {
+		return 0, false
+	}
+	return t.leaves[code], true
 }
 
 // Up returns the code at a level that is a code itself, or stands above it; -1 if there is none.

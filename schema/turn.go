@@ -76,14 +76,5 @@ func (b Book) Some(column, level, value int) (int, bool) {
 		low, _, ok := block(c, level, value)
 		return low, ok
 	}
-	t := b.trees[b.Columns[column].List]
-	if t.Level(value) != level {
-		return 0, false
-	}
-	for _, leaf := range t.At(t.Levels() - 1) {
-		if t.Under(leaf, value) {
-			return leaf, true
-		}
-	}
-	return 0, false
+	return b.trees[b.Columns[column].List].Some(value, level)
 }

@@ -8,16 +8,30 @@ import (
 )
 
 // Apply returns the source behind an edit.
-func Apply(s api.Source, e api.Edit) (api.Source, api.Errno) {
-	book, err := schema.Open(s.Schema)
-	if err != api.OK || !valid(book, s) || s.Version == api.MaxEdits {
+func Apply(s api.Source, e api.Edit) (api.Source, api.Errno) { return At(s, []api.Edit{e}, 1) }
+
+// At returns the source behind the first edits of a list.
+func At(s api.Source, l []api.Edit, version int) (api.Source, api.Errno) {
+	if version < 0 || version > len(l) {
 		return api.Source{}, api.ErrVersion
 	}
-	err = change(book, &s, e)
-	if err != api.OK {
-		return api.Source{}, err
+	if version == 0 {
+		return s, api.OK
 	}
-	s.Version++
+	book, e := schema.Open(s.Schema)
+	if e != api.OK || !valid(book, s) {
+		return api.Source{}, api.ErrVersion
+	}
+	for _, edit := range l[:version] {
+		// Behind an edit a valid source is valid, unless it has become too long.
+		if s.Version == api.MaxEdits || len(s.Gone) > api.MaxEdits {
+			return api.Source{}, api.ErrVersion
+		}
+		if e := change(book, &s, edit); e != api.OK {
+			return api.Source{}, e
+		}
+		s.Version++
+	}
 	return s, api.OK
 }
 
@@ -80,21 +94,6 @@ func withdraw(s *api.Source, id int) api.Errno {
 }
 
 func without(rows [][]int, at int) [][]int { return slices.Concat(rows[:at], rows[at+1:]) }
-
-// At returns the source behind the first edits of a list.
-func At(s api.Source, l []api.Edit, version int) (api.Source, api.Errno) {
-	if version < 0 || version > len(l) {
-		return api.Source{}, api.ErrVersion
-	}
-	for _, edit := range l[:version] {
-		next, e := Apply(s, edit)
-		if e != api.OK {
-			return api.Source{}, e
-		}
-		s = next
-	}
-	return s, api.OK
-}
 
 // Touched returns the ids that some edits are about, ascending, each once.
 func Touched(l []api.Edit, from, to int) []int {

@@ -241,6 +241,23 @@ func TestAt(t *testing.T) {
 	want(t, "an edit of a wrong source", e, api.ErrVersion)
 }
 
+// TestLong is about P4.3: sources of which too many are gone, or that have had all edits.
+func TestLong(t *testing.T) {
+	full := api.Source{Schema: small(), Gone: count(299)}
+	l := []api.Edit{{Kind: api.EditWithdraw, Id: 300}, {Kind: api.EditWithdraw, Id: 301}, {Kind: api.EditWithdraw, Id: 302}}
+	for version, should := range []api.Errno{api.OK, api.OK, api.OK, api.ErrVersion} {
+		s, e := source.At(full, l, version)
+		want(t, fmt.Sprint("gone ", version), fmt.Sprint(len(s.Gone), e), fmt.Sprint([]int{299, 300, 301, 0}[version], should))
+	}
+	s, _ := source.At(full, l, 2)
+	want(t, "too many are gone", source.Valid(s), false)
+	last := api.Source{Schema: small(), Version: 298}
+	for version, should := range []api.Errno{api.OK, api.OK, api.OK, api.ErrVersion} {
+		s, e := source.At(last, l, version)
+		want(t, fmt.Sprint("version ", version), fmt.Sprint(s.Version, e), fmt.Sprint([]int{298, 299, 300, 0}[version], should))
+	}
+}
+
 // TestFind is about P4.4.
 func TestFind(t *testing.T) {
 	for id, row := range map[int]int{2: 0, 5: 1, 9: 2, 1: -1, 4: -1, 10: -1, -5: -1} {
