@@ -5,6 +5,7 @@ import (
 
 	"dataenclave/api"
 	"dataenclave/schema"
+	"dataenclave/tree"
 )
 
 // Clause is a condition that Check accepts, with its schema, so that questions about it need no second check.
@@ -15,10 +16,10 @@ type Clause struct {
 
 // Open returns the clause of a condition, or its first error.
 func Open(b schema.Book, c api.Cond) (Clause, api.Errno) {
-	if countdown(c, api.MaxNodes) < 0 {
+	if tree.Countdown(c, kids, api.MaxNodes) < 0 {
 		return Clause{}, api.ErrLimit
 	}
-	if depth(c) > api.MaxDepth {
+	if tree.Depth(c, kids) > api.MaxDepth {
 		return Clause{}, api.ErrDepth
 	}
 	if e := check(b, c); e != api.OK {
@@ -27,25 +28,7 @@ func Open(b schema.Book, c api.Cond) (Clause, api.Errno) {
 	return Clause{book: b, cond: c}, api.OK
 }
 
-// countdown takes the number of conditions from a number, and stops below 0, however many there are.
-func countdown(c api.Cond, left int) int {
-	left--
-	for _, kid := range c.Kids {
-		if left < 0 {
-			return left
-		}
-		left = countdown(kid, left)
-	}
-	return left
-}
-
-func depth(c api.Cond) int {
-	deepest := 0
-	for _, kid := range c.Kids {
-		deepest = max(deepest, depth(kid))
-	}
-	return deepest + 1
-}
+func kids(c api.Cond) []api.Cond { return c.Kids }
 
 func check(b schema.Book, c api.Cond) api.Errno {
 	if c.Op < api.CondAll || c.Op > api.CondNot {
@@ -67,7 +50,7 @@ func check(b schema.Book, c api.Cond) api.Errno {
 
 // formed reports whether a condition has the right number of Kids, and nothing in fields that it does not use.
 func formed(c api.Cond) bool {
-	used, kids := api.Cond{Op: c.Op, Kids: c.Kids}, 0
+	used, count := api.Cond{Op: c.Op, Kids: c.Kids}, 0
 	switch c.Op {
 	case api.CondUnder:
 		used.Column, used.Code = c.Column, c.Code
@@ -76,12 +59,12 @@ func formed(c api.Cond) bool {
 	case api.CondMissing:
 		used.Column = c.Column
 	case api.CondAnd, api.CondOr:
-		kids = 2
+		count = 2
 	case api.CondNot:
-		kids = 1
+		count = 1
 	}
 	same := used.Column == c.Column && used.Code == c.Code && used.Low == c.Low && used.High == c.High
-	return same && len(c.Kids) == kids
+	return same && len(c.Kids) == count
 }
 
 func checkParts(b schema.Book, c api.Cond) api.Errno {
