@@ -9,11 +9,11 @@ import (
 )
 
 // Parse returns the name and what is told by a text, and 0, or the number of a line with an error.
-func Parse(s string) (string, api.Value, int, api.Errno) {
-	if len(s) > api.MaxText {
+func Parse(text string) (string, api.Value, int, api.Errno) {
+	if len(text) > api.MaxText {
 		return "", api.Value{}, 0, api.ErrLimit
 	}
-	r := reader{rest: s}
+	r := reader{rest: text}
 	name := r.output()
 	if !r.wrong && r.rest != "" {
 		r.number++
